@@ -1,0 +1,1 @@
+"""Stones that fall along the rows of a tree."""

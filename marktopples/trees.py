@@ -1,0 +1,61 @@
+"""Trees: their check, the ways in them, and greater trees made of them."""
+
+from marktopples.bounds import MAX_LENGTH, MAX_MARKS
+from marktopples.checks import is_number_from_to
+from marktopples.errors import TooLarge
+
+
+def is_tree(value):
+    """Return whether any value is a tree."""
+    return tree_error(value) is None
+
+
+def tree_error(value):
+    """Return None for a tree, (None, "tree") or (index, "row") for any other value."""
+    if not isinstance(value, tuple) or len(value) > MAX_MARKS - 1:
+        return (None, "tree")
+    for index, row in enumerate(value):
+        if not _is_row(row, index):
+            return (index, "row")
+    return None
+
+
+def _is_row(row, index):
+    if not isinstance(row, tuple) or len(row) != 2:
+        return False
+    return is_number_from_to(row[0], 0, index) and is_number_from_to(row[1], 1, MAX_LENGTH)
+
+
+def distance_between(tree, one, other):
+    """Return the sum of the lengths of the rows on the way between two marks."""
+    way = way_between(tree, one, other)
+    # The greater one of two neighbours is the one whose parent the other one is.
+    return sum([tree[max(near, far) - 1][1] for near, far in zip(way, way[1:])])
+
+
+def way_between(tree, one, other):
+    """Return the marks on the way from one to other, both included."""
+    start = [one]
+    end = [other]
+    while start[-1] != end[-1]:
+        # A parent is less than its mark, so the greater mark is not above the other one.
+        if start[-1] > end[-1]:
+            start.append(tree[start[-1] - 1][0])
+        else:
+            end.append(tree[end[-1] - 1][0])
+    end.pop()
+    return tuple(start + end[::-1])
+
+
+def hung(tree, mark, length):
+    """Return the tree with one more mark, joined with mark by a row of this length."""
+    return joined(tree, mark, (), length=length)
+
+
+def joined(tree, mark, other, *, length=1):
+    """Return the tree with the marks of other behind its own, a row joining mark with the first of them."""
+    first = len(tree) + 1
+    if first + len(other) + 1 > MAX_MARKS:
+        raise TooLarge(MAX_MARKS)
+    rows = [(parent + first, size) for parent, size in other]
+    return tree + ((mark, length),) + tuple(rows)
