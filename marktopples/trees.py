@@ -47,6 +47,13 @@ def way_between(tree, one, other):
     return tuple(start + end[::-1])
 
 
+def neighbours_of(tree, mark):
+    """Return (neighbour, length of the row between them) for each neighbour of the mark."""
+    above = [tree[mark - 1]] if mark > 0 else []
+    below = [(row + 1, length) for row, (parent, length) in enumerate(tree) if parent == mark]
+    return above + below
+
+
 def hung(tree, mark, length):
     """Return the tree with one more mark, joined with mark by a row of this length."""
     return joined(tree, mark, (), length=length)

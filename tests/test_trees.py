@@ -2,30 +2,12 @@
 
 import copy
 import inspect
-import itertools
 import unittest
 
 from marktopples import trees
 from marktopples.errors import FallError, TooLarge
-from marktopples.trees import distance_between, hung, is_tree, joined, tree_error, way_between
-
-T = ((0, 2), (1, 3))
-LONGEST = 10 ** 6
-
-
-def chain(marks, length=1):
-    return tuple((k, length) for k in range(marks - 1))
-
-
-def star(marks, length=1):
-    return tuple((0, length) for k in range(marks - 1))
-
-
-def shapes(marks):
-    """Return all trees with so many marks; each sum of lengths tells which rows it is made of."""
-    lengths = [2 ** k for k in range(marks - 1)]
-    parents = itertools.product(*[range(k + 1) for k in range(marks - 1)])
-    return [tuple(zip(row, lengths)) for row in parents]
+from marktopples.trees import distance_between, hung, is_tree, joined, neighbours_of, tree_error, way_between
+from tests.samples import LONGEST, SEVERAL, T, chain, check_interface, shapes, star
 
 
 def way_by_search(tree, one, other):
@@ -40,12 +22,6 @@ def way_by_search(tree, one, other):
                     ways[far] = (way + (far,), distance + length)
                     queue.append(far)
     return ways[other]
-
-
-SEVERAL = [(), ((0, 5),), T, ((0, 2), (0, 3)), chain(12, LONGEST), star(12, LONGEST)] + [
-    ((0, 4), (0, 9), (1, 2), (1, 7), (2, 1), (2, 30), (4, 5), (3, 8), (0, LONGEST), (9, 6), (7, 11)),
-    ((0, 1), (1, 20), (1, 300), (3, 4000), (3, 50000), (5, 600000), (5, 7), (7, 80), (7, 900)),
-]
 
 
 class Case(unittest.TestCase):
@@ -89,12 +65,7 @@ class InterfaceTest(unittest.TestCase):
             "hung": ["tree", "mark", "length"],
             "joined": ["tree", "mark", "other", "length"],
         }
-        for name, expected in parameters.items():
-            with self.subTest(name=name):
-                function = getattr(trees, name)
-                self.assertTrue(inspect.isfunction(function))
-                self.assertEqual(function.__module__, "marktopples.trees")
-                self.assertEqual(list(inspect.signature(function).parameters), expected)
+        check_interface(self, trees, parameters)
 
     def test_length_of_joined_is_passed_by_keyword(self):
         length = inspect.signature(joined).parameters["length"]
@@ -300,6 +271,20 @@ class WayTest(unittest.TestCase):
         self.assertEqual(distance_between(((0, 2), (1, 3)), 0, 2), 5)
         self.assertEqual(distance_between(((0, 2), (1, 30)), 0, 2), 32)
         self.assertEqual(distance_between(((0, 2), (0, 3)), 0, 2), 3)
+
+
+class NeighboursTest(unittest.TestCase):
+
+    def test_neighbours_with_their_rows(self):
+        self.assertEqual(neighbours_of((), 0), [])
+        self.assertEqual([neighbours_of(T, mark) for mark in range(3)], [[(1, 2)], [(0, 2), (2, 3)], [(1, 3)]])
+        self.assertEqual(neighbours_of(((0, 4), (0, 5), (1, 6)), 0), [(1, 4), (2, 5)])
+
+    def test_each_row_joins_two_neighbours(self):
+        for tree in SEVERAL:
+            found = {(mark, *near) for mark in range(len(tree) + 1) for near in neighbours_of(tree, mark)}
+            rows = {(parent, row + 1, length) for row, (parent, length) in enumerate(tree)}
+            self.assertEqual(found, rows | {(mark, parent, length) for parent, mark, length in rows})
 
 
 class GrownTest(unittest.TestCase):
