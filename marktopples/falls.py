@@ -11,12 +11,13 @@ def falls_of(tree, value):
     if not isinstance(value, tuple) or not 1 <= len(value) <= MAX_PUSHES:
         raise BadPushes(None)
     for index, push in enumerate(value):
-        if not _is_push(tree, push):
+        if not is_push(tree, push):
             raise BadPushes(index)
     return tuple([_fall_of(tree, value, mark) for mark in range(len(tree) + 1)])
 
 
-def _is_push(tree, value):
+def is_push(tree, value):
+    """Return whether any value is a push of the tree."""
     if not isinstance(value, tuple) or len(value) != 2:
         return False
     return is_number_from_to(value[0], 0, len(tree)) and is_number_from_to(value[1], 0, MAX_TICK)

@@ -15,12 +15,13 @@ def tree_error(value):
     if not isinstance(value, tuple) or len(value) > MAX_MARKS - 1:
         return (None, "tree")
     for index, row in enumerate(value):
-        if not _is_row(row, index):
+        if not is_row(row, index):
             return (index, "row")
     return None
 
 
-def _is_row(row, index):
+def is_row(row, index):
+    """Return whether any value is a row that a tree can have at this index."""
     if not isinstance(row, tuple) or len(row) != 2:
         return False
     return is_number_from_to(row[0], 0, index) and is_number_from_to(row[1], 1, MAX_LENGTH)
@@ -31,6 +32,16 @@ def distance_between(tree, one, other):
     way = way_between(tree, one, other)
     # The greater one of two neighbours is the one whose parent the other one is.
     return sum([tree[max(near, far) - 1][1] for near, far in zip(way, way[1:])])
+
+
+def distances_of(tree):
+    """Return a list for each mark, with its distances from all marks: all of them cost little more than one."""
+    far = [[0]]
+    for parent, length in tree:
+        # The way to the new mark is the way to its parent and this row.
+        near = [way + length for way in far[parent]]
+        far = [ways + [near[mark]] for mark, ways in enumerate(far)] + [near + [0]]
+    return far
 
 
 def way_between(tree, one, other):

@@ -153,6 +153,17 @@ def check_raises(case, error, field, expected, function, *arguments):
     case.assertEqual(repr(arguments), before)
 
 
+def check_same_value(case, error, value, function, *arguments):
+    """The call raises exactly this error, whose value is the very one that was passed; no argument changes."""
+    before = repr(arguments)
+    for _ in range(2):
+        with case.assertRaises(error) as caught:
+            function(*arguments)
+        case.assertIs(type(caught.exception), error)
+        case.assertIs(caught.exception.value, value)
+    case.assertEqual(repr(arguments), before)
+
+
 def check_interface(case, module, parameters):
     """The file defines these functions, with these parameters."""
     for name, expected in parameters.items():

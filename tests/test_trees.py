@@ -6,8 +6,10 @@ import unittest
 
 from marktopples import trees
 from marktopples.errors import FallError, TooLarge
-from marktopples.trees import distance_between, hung, is_tree, joined, neighbours_of, tree_error, way_between
-from tests.samples import LONGEST, SEVERAL, T, chain, check_interface, shapes, star
+from marktopples.trees import (
+    distance_between, distances_of, hung, is_tree, joined, neighbours_of, tree_error, way_between,
+)
+from tests.samples import LONGEST, SEVERAL, T, chain, check_interface, plain_distances, shapes, star
 
 
 def way_by_search(tree, one, other):
@@ -271,6 +273,17 @@ class WayTest(unittest.TestCase):
         self.assertEqual(distance_between(((0, 2), (1, 3)), 0, 2), 5)
         self.assertEqual(distance_between(((0, 2), (1, 30)), 0, 2), 32)
         self.assertEqual(distance_between(((0, 2), (0, 3)), 0, 2), 3)
+
+
+class DistancesTest(unittest.TestCase):
+
+    def test_all_pairs(self):
+        for tree in SEVERAL + shapes(5):
+            self.assertEqual(distances_of(tree), plain_distances(tree))
+
+    def test_each_call_makes_lists_of_its_own(self):
+        distances_of(T)[0][1] = 7
+        self.assertEqual(distances_of(T), [[0, 2, 5], [2, 0, 3], [5, 3, 0]])
 
 
 class NeighboursTest(unittest.TestCase):
