@@ -3,26 +3,31 @@
 from marktopples.checks import is_number_from_to
 from marktopples.errors import BadPushes
 from marktopples.falls import falls_of
-from marktopples.trees import distance_between
-from marktopples.windows import earliest, fits
+from marktopples.trees import distances_of
+from marktopples.windows import earliest_at, fits
 
 
 def serving_part(tree, windows, mark):
     """Return the marks from which a push can make this mark fall in time."""
-    return _part_from(tree, windows, earliest(tree, windows), mark)
+    far = distances_of(tree)
+    return _part_at(far, windows, earliest_at(far, windows), mark)
 
 
-def _part_from(tree, windows, firsts, mark):
+def _part_at(far, windows, firsts, mark):
     last = windows[mark][1]
     if last is None:
         return tuple(range(len(windows)))
-    return tuple([other for other, first in enumerate(firsts) if first + distance_between(tree, other, mark) <= last])
+    return tuple([other for other, (first, way) in enumerate(zip(firsts, far[mark])) if first + way <= last])
 
 
 def fewest_pushes(tree, windows):
     """Return as few pushes as possible whose falls fit, and as many marks that need one each."""
-    firsts = earliest(tree, windows)
-    parts = [_part_from(tree, windows, firsts, mark) for mark in range(len(windows))]
+    far = distances_of(tree)
+    return _fewest_at(far, windows, earliest_at(far, windows))
+
+
+def _fewest_at(far, windows, firsts):
+    parts = [_part_at(far, windows, firsts, mark) for mark in range(len(windows))]
     tops, marks = _meet_parts(parts)
     return (tuple([(top, firsts[top]) for top in sorted(tops)]), tuple(sorted(marks)))
 
@@ -66,36 +71,38 @@ def _are_marks(tree, value):
 
 
 def _are_apart(tree, windows, marks):
-    firsts = earliest(tree, windows)
-    parts = [_part_from(tree, windows, firsts, mark) for mark in marks]
-    members = [member for part in parts for member in part]
+    far = distances_of(tree)
+    firsts = earliest_at(far, windows)
+    members = [member for mark in marks for member in _part_at(far, windows, firsts, mark)]
     return len(set(members)) == len(members)
 
 
 def least_finish(tree, many):
     """Return the least finish of so many pushes, such pushes, and marks that need one more before it."""
-    finish = _find_finish(tree, many)
-    pushes, _ = fewest_pushes(tree, _windows_until(tree, finish))
+    far = distances_of(tree)
+    finish = _find_finish(far, many)
+    pushes, _ = _fewest_until(far, finish)
     if finish == 0:
         return (finish, pushes, None)
-    _, marks = fewest_pushes(tree, _windows_until(tree, finish - 1))
+    _, marks = _fewest_until(far, finish - 1)
     return (finish, pushes, marks[:many + 1])
 
 
-def _find_finish(tree, many):
+def _find_finish(far, many):
     # Pushes at tick 0 are the best ones, so the finish is the distance of some mark from a push.
-    marks = range(len(tree) + 1)
-    finishes = sorted({distance_between(tree, one, other) for one in marks for other in marks})
+    finishes = sorted({way for ways in far for way in ways})
     low = 0
     high = len(finishes) - 1
     while low < high:
         middle = (low + high) // 2
-        if len(fewest_pushes(tree, _windows_until(tree, finishes[middle]))[0]) <= many:
+        pushes, _ = _fewest_until(far, finishes[middle])
+        if len(pushes) <= many:
             high = middle
         else:
             low = middle + 1
     return finishes[low]
 
 
-def _windows_until(tree, last):
-    return ((0, last),) * (len(tree) + 1)
+def _fewest_until(far, last):
+    # With these windows each mark can fall at tick 0, so that the earliest table need not be looked for.
+    return _fewest_at(far, ((0, last),) * len(far), (0,) * len(far))

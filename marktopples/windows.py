@@ -4,7 +4,7 @@ from marktopples.bounds import MAX_TICK
 from marktopples.checks import is_number_from_to
 from marktopples.errors import NoTable
 from marktopples.falls import is_table
-from marktopples.trees import distance_between
+from marktopples.trees import distances_of
 
 
 def is_windows(tree, value):
@@ -37,56 +37,59 @@ def _is_within(window, number):
 
 def find_pair(tree, windows):
     """Return the smallest pair that excludes all tables, or None if some table fits."""
-    for one in range(len(windows)):
-        for other in range(len(windows)):
-            if _is_pair(tree, windows, one, other):
+    return _pair_at(distances_of(tree), windows)
+
+
+def _pair_at(far, windows):
+    for one, (least, _) in enumerate(windows):
+        for other, (_, last) in enumerate(windows):
+            # A mark and itself are never a pair: no last tick is less than the least one of its window.
+            if last is not None and least > last + far[one][other]:
                 return (one, other)
     return None
 
 
-def _is_pair(tree, windows, one, other):
-    # A mark and itself are never a pair: no last tick is less than the least one of its window.
-    least = windows[one][0]
-    last = windows[other][1]
-    return last is not None and least > last + distance_between(tree, one, other)
-
-
 def earliest(tree, windows):
     """Return the table that fits with the least number for each mark."""
-    _check_some_table(tree, windows)
-    return tuple([_earliest_number(tree, windows, mark) for mark in range(len(windows))])
+    return earliest_at(distances_of(tree), windows)
+
+
+def earliest_at(far, windows):
+    """Return the earliest table from the distances of all marks, for callers that need these, too."""
+    _check_some_table(far, windows)
+    return tuple([_earliest_number(ways, windows) for ways in far])
 
 
 def latest(tree, windows):
     """Return the table that fits with the greatest number for each mark, or None for each mark."""
-    _check_some_table(tree, windows)
-    return tuple([_latest_number(tree, windows, mark) for mark in range(len(windows))])
+    far = distances_of(tree)
+    _check_some_table(far, windows)
+    return tuple([_latest_number(ways, windows) for ways in far])
 
 
-def _check_some_table(tree, windows):
-    pair = find_pair(tree, windows)
+def _check_some_table(far, windows):
+    pair = _pair_at(far, windows)
     if pair is not None:
         raise NoTable(pair)
 
 
-def _earliest_number(tree, windows, mark):
+def _earliest_number(ways, windows):
     # A fall before this one would reach some other mark before its least tick.
-    return max([least - distance_between(tree, other, mark) for other, (least, _) in enumerate(windows)])
+    return max([least - way for (least, _), way in zip(windows, ways)])
 
 
-def _latest_number(tree, windows, mark):
-    ends = [(other, last) for other, (_, last) in enumerate(windows) if last is not None]
-    return min([last + distance_between(tree, other, mark) for other, last in ends], default=None)
+def _latest_number(ways, windows):
+    return min([last + way for (_, last), way in zip(windows, ways) if last is not None], default=None)
 
 
 def greatest_difference(tree, windows, one, other):
     """Return the greatest difference, number of one less that of other, in tables that fit."""
-    _check_some_table(tree, windows)
-    distance = distance_between(tree, one, other)
-    last = _latest_number(tree, windows, one)
+    far = distances_of(tree)
+    _check_some_table(far, windows)
+    last = _latest_number(far[one], windows)
     if last is None:
-        return distance
-    return min(distance, last - _earliest_number(tree, windows, other))
+        return far[one][other]
+    return min(far[one][other], last - _earliest_number(far[other], windows))
 
 
 def order_of(tree, windows, one, other):

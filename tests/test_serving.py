@@ -491,5 +491,48 @@ class LeastFinishTest(unittest.TestCase):
             self.assertEqual(least_finish(chain(12, LONGEST), many)[0], steps * LONGEST)
 
 
+class SettledAnswersTest(unittest.TestCase):
+    """Where several results are correct, one was chosen once, and it stays."""
+
+    tree = tuple((k, LONGEST - k) for k in range(11))
+
+    def test_least_finish(self):
+        finishes = [
+            5999955, 2999982, 1999991, 1000000, 999999, 999997, 999996, 999994, 999993, 999991, 999990, 0,
+        ]
+        self.assertEqual([least_finish(self.tree, many)[0] for many in range(1, 13)], finishes)
+        self.assertEqual(least_finish(self.tree, 1), (5999955, ((5, 0),), (0, 11)))
+        self.assertEqual(least_finish(self.tree, 2), (2999982, ((2, 0), (8, 0)), (0, 5, 11)))
+        self.assertEqual(least_finish(self.tree, 4)[1:], (((1, 0), (4, 0), (7, 0), (10, 0)), (0, 2, 5, 8, 11)))
+        pushes = tuple((mark, 0) for mark in (0, 1, 2, 4, 7, 10))
+        self.assertEqual(least_finish(self.tree, 6), (999997, pushes, (0, 1, 2, 3, 5, 8, 11)))
+
+    def test_windows_without_last_ticks(self):
+        windows = ((0, None),) * 12
+        self.assertEqual(fewest_pushes(self.tree, windows), (((0, 0),), (11,)))
+        for mark in range(12):
+            self.assertEqual(serving_part(self.tree, windows, mark), tuple(range(12)))
+
+    def test_windows_with_a_last_tick(self):
+        windows = ((0, 3 * LONGEST),) * 12
+        self.assertEqual(fewest_pushes(self.tree, windows), (((1, 0), (8, 0)), (4, 11)))
+        for mark in range(12):
+            # Three rows together are a little shorter than the window, four are longer.
+            expected = tuple(range(max(0, mark - 3), min(12, mark + 4)))
+            self.assertEqual(serving_part(self.tree, windows, mark), expected)
+
+    def test_windows_at_the_bound(self):
+        windows = ((LAST_TICK - 4 * LONGEST, LAST_TICK),) * 12
+        pushes, marks = fewest_pushes(self.tree, windows)
+        self.assertEqual(pushes, ((0, LAST_TICK - 4 * LONGEST), (7, LAST_TICK - 4 * LONGEST)))
+        self.assertEqual(marks, (2, 11))
+
+    def test_a_tree_with_branches(self):
+        tree = ((0, 4), (0, 9), (1, 2), (1, 7), (2, 1), (2, 30), (4, 5), (3, 8))
+        self.assertEqual(least_finish(tree, 2), (14, ((1, 0), (6, 0)), (5, 6, 8)))
+        windows = ((0, 9), (3, None), (0, 12), (2, 8), (0, 40), (1, 9)) + ((0, 11),) * 3
+        self.assertEqual(fewest_pushes(tree, windows), (((2, 0), (3, 2), (4, 0), (6, 0)), (5, 6, 7, 8)))
+
+
 if __name__ == "__main__":
     unittest.main()
