@@ -1,9 +1,9 @@
 """Pushes, the falls that they lead to, and the tables of falls."""
 
-from marktopples.bounds import LIMIT, MAX_PUSHES, MAX_TICK
-from marktopples.checks import is_number_from_to
+from marktopples.bounds import LIMIT, MAX_PUSHES
+from marktopples.checks import is_number_from_to, is_tick
 from marktopples.errors import BadPushes
-from marktopples.trees import distance_between, neighbours_of
+from marktopples.trees import distances_of, is_mark, neighbours_of
 
 
 def falls_of(tree, value):
@@ -13,18 +13,18 @@ def falls_of(tree, value):
     for index, push in enumerate(value):
         if not is_push(tree, push):
             raise BadPushes(index)
-    return tuple([_fall_of(tree, value, mark) for mark in range(len(tree) + 1)])
+    return tuple([_fall_from(ways, value) for ways in distances_of(tree)])
 
 
 def is_push(tree, value):
     """Return whether any value is a push of the tree."""
     if not isinstance(value, tuple) or len(value) != 2:
         return False
-    return is_number_from_to(value[0], 0, len(tree)) and is_number_from_to(value[1], 0, MAX_TICK)
+    return is_mark(tree, value[0]) and is_tick(value[1])
 
 
-def _fall_of(tree, pushes, mark):
-    return min([tick + distance_between(tree, pushed, mark) for pushed, tick in pushes])
+def _fall_from(ways, pushes):
+    return min([tick + ways[pushed] for pushed, tick in pushes])
 
 
 def is_table(tree, value):

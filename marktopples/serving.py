@@ -1,9 +1,8 @@
 """The fewest pushes for windows, the reason that fewer are not enough, and the least finish."""
 
-from marktopples.checks import is_number_from_to
 from marktopples.errors import BadPushes
 from marktopples.falls import falls_of
-from marktopples.trees import distances_of
+from marktopples.trees import distances_of, is_mark
 from marktopples.windows import earliest_at, fits
 
 
@@ -65,7 +64,7 @@ def _falls_fit(tree, windows, value):
 
 
 def _are_marks(tree, value):
-    if not isinstance(value, tuple) or not all([is_number_from_to(mark, 0, len(tree)) for mark in value]):
+    if not isinstance(value, tuple) or not all([is_mark(tree, mark) for mark in value]):
         return False
     return all([one < other for one, other in zip(value, value[1:])])
 

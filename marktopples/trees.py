@@ -27,6 +27,11 @@ def is_row(row, index):
     return is_number_from_to(row[0], 0, index) and is_number_from_to(row[1], 1, MAX_LENGTH)
 
 
+def is_mark(tree, value):
+    """Return whether any value is a mark of the tree."""
+    return is_number_from_to(value, 0, len(tree))
+
+
 def distance_between(tree, one, other):
     """Return the sum of the lengths of the rows on the way between two marks."""
     way = way_between(tree, one, other)

@@ -1,7 +1,7 @@
 """Windows in which the marks must fall, and the tables that fit them."""
 
 from marktopples.bounds import MAX_TICK
-from marktopples.checks import is_number_from_to
+from marktopples.checks import is_number_from_to, is_tick
 from marktopples.errors import NoTable
 from marktopples.falls import is_table
 from marktopples.trees import distances_of
@@ -18,7 +18,7 @@ def _is_window(value):
     if not isinstance(value, tuple) or len(value) != 2:
         return False
     least, last = value
-    if not is_number_from_to(least, 0, MAX_TICK):
+    if not is_tick(least):
         return False
     return last is None or is_number_from_to(last, least, MAX_TICK)
 
@@ -27,10 +27,11 @@ def fits(tree, windows, value):
     """Return whether any value is a possible table with each number in its window."""
     if not is_table(tree, value):
         return False
-    return all([_is_within(window, number) for window, number in zip(windows, value)])
+    return all([is_within(window, number) for window, number in zip(windows, value)])
 
 
-def _is_within(window, number):
+def is_within(window, number):
+    """Return whether a mark that falls at this number falls within its window."""
     least, last = window
     return least <= number and (last is None or number <= last)
 
