@@ -219,6 +219,14 @@ class OrTest(Case):
             self.check_falls(left, T, TABLE)
             self.check_falls(right, tree, (4,) * (len(tree) + 1))
 
+    def test_other_kinds_have_no_such_sign(self):
+        falls = Falls(T, TABLE)
+        for value in (None, 0, (), T, TABLE, [falls], "falls"):
+            with self.assertRaises(TypeError):
+                falls | value
+            with self.assertRaises(TypeError):
+                value | falls
+
     def test_in_place_sign_leaves_the_operand(self):
         one = Falls(T, (1, 3, 6))
         kept = one
